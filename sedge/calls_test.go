@@ -1,0 +1,191 @@
+package sedge_test
+
+import (
+	"slices"
+	"testing"
+	"unsafe"
+
+	"sedge/api"
+	"sedge/sedge"
+)
+
+func extremeNumbers() []int {
+	return []int{leastInt, leastInt + 1, -1001, -1, 0, 1, 2, 3, 4, 255, 256, 999, 1000, 1001, greatestInt - 1, greatestInt}
+}
+
+func extremeTexts() []string {
+	return []string{
+		"", "\x00", "\xff", "\x00\xff", "a", "banana", "\xc3\x28", allBytes(), falling(),
+		over("\x00", 1000), over("\xff", 1000), over("\x00", 1001), over("\xff", 1001), over("ab", 100000),
+	}
+}
+
+// callAll makes every call that takes a text, a number or both.
+func callAll(text, other string, n int) {
+	sedge.Sort(text, n)
+	sedge.Common(text)
+	sedge.Parts(text)
+	sedge.Part(text, n)
+	sedge.Find(text, other)
+	sedge.Shared(text, other)
+	sedge.Turn(text)
+	sedge.Unturn(text, n)
+	sedge.Factors(text)
+	sedge.Join([]api.Factor{{From: n, Len: n, Byte: byte(n)}})
+	s := sedge.NewShelf()
+	s.Put(n, text)
+	s.Find(other)
+	s.Top(other, n)
+	s.Wide(n)
+	s.Drop(n)
+}
+
+func TestP1NoCallPanics(t *testing.T) {
+	defer func() {
+		if r := recover(); r != nil {
+			t.Fatalf("P1: a call panicked: %v", r)
+		}
+	}()
+	texts := extremeTexts()
+	for i, text := range texts {
+		for _, n := range extremeNumbers() {
+			callAll(text, texts[(i+1)%len(texts)], n)
+		}
+	}
+	sedge.Join(nil)
+	sedge.Join(make([]api.Factor, 1001))
+}
+
+func TestP1TheFirstNamedErrorAndNothingBesides(t *testing.T) {
+	long := over("ab", 1001)
+	for _, how := range []int{leastInt, -1, 3, 4, greatestInt} {
+		for _, text := range []string{"", "banana", long} {
+			if l, e := sedge.Sort(text, how); len(l) != 0 || e != api.ErrHow {
+				t.Errorf("P1: Sort of %d bytes by way %d = %v, %d, want nothing, ErrHow", len(text), how, l, e)
+			}
+		}
+	}
+	for _, n := range extremeNumbers() {
+		if p, e := sedge.Part(long, n); p != "" || e != api.ErrLong {
+			t.Errorf("P1: Part of 1001 bytes, %d = %q, %d, want nothing, ErrLong", n, p, e)
+		}
+	}
+	for how := range api.Ways {
+		if l, e := sedge.Sort(long, how); len(l) != 0 || e != api.ErrLong {
+			t.Errorf("P1: Sort of 1001 bytes by way %d = %v, %d, want nothing, ErrLong", how, l, e)
+		}
+	}
+	if l, e := sedge.Common(long); len(l) != 0 || e != api.ErrLong {
+		t.Errorf("P1: Common of 1001 bytes = %v, %d, want nothing, ErrLong", l, e)
+	}
+	if n, e := sedge.Parts(long); n != 0 || e != api.ErrLong {
+		t.Errorf("P1: Parts of 1001 bytes = %d, %d, want 0, ErrLong", n, e)
+	}
+	if p, e := sedge.Part("banana", 15); p != "" || e != api.ErrNone {
+		t.Errorf("P1: Part of banana, 15 = %q, %d, want nothing, ErrNone", p, e)
+	}
+}
+
+// answers is all that the calls of one text tell, each list a copy.
+type answers struct {
+	sorted [api.Ways][]int
+	common []int
+	count  int
+	part   string
+}
+
+func answersOf(text string) answers {
+	var a answers
+	for how := range api.Ways {
+		l, _ := sedge.Sort(text, how)
+		a.sorted[how] = slices.Clone(l)
+	}
+	l, _ := sedge.Common(text)
+	a.common = slices.Clone(l)
+	a.count, _ = sedge.Parts(text)
+	a.part, _ = sedge.Part(text, a.count/2)
+	return a
+}
+
+func (a answers) equal(b answers) bool {
+	for how := range api.Ways {
+		if !slices.Equal(a.sorted[how], b.sorted[how]) {
+			return false
+		}
+	}
+	return slices.Equal(a.common, b.common) && a.count == b.count && a.part == b.part
+}
+
+func TestP2TheSameCallAgainBehindOthers(t *testing.T) {
+	texts := append(shortTexts(), longTexts()...)
+	var first []answers
+	for _, text := range texts {
+		first = append(first, answersOf(text))
+	}
+	for i := len(texts) - 1; i >= 0; i-- {
+		callAll(over("x", 1001), "", -1)
+		if again := answersOf(texts[i]); !again.equal(first[i]) {
+			t.Errorf("P2: %.60q told %v, then %v", texts[i], first[i], again)
+		}
+	}
+}
+
+// spoil writes over a list and over all its spare room, also by appending.
+func spoil(l []int) {
+	whole := l[:cap(l)]
+	for i := range whole {
+		whole[i] = -7
+	}
+	for range 3 {
+		l = append(l, -9)
+	}
+}
+
+// lists is each list that the calls of one text give out, as it came out.
+func lists(text string) [][]int {
+	var all [][]int
+	for how := range api.Ways {
+		l, _ := sedge.Sort(text, how)
+		all = append(all, l)
+	}
+	l, _ := sedge.Common(text)
+	return append(all, l)
+}
+
+func TestP2AListIsTheCallers(t *testing.T) {
+	for _, text := range append(shortTexts(), longTexts()...) {
+		want := answersOf(text)
+		kept := append(lists(text), lists(text)...)
+		var before [][]int
+		for _, l := range kept {
+			before = append(before, slices.Clone(l))
+		}
+		for i := range kept {
+			spoil(kept[i])
+			for k := i + 1; k < len(kept); k++ {
+				if !slices.Equal(kept[k], before[k]) {
+					t.Fatalf("P2: %.60q: writing over list %d changed list %d", text, i, k)
+				}
+			}
+		}
+		if again := answersOf(text); !again.equal(want) {
+			t.Fatalf("P2: %.60q: writing over the lists changed later answers: %v, were %v", text, again, want)
+		}
+	}
+}
+
+// addressed is where the first byte of a text stands, as a number.
+func addressed(text string) uintptr {
+	return uintptr(unsafe.Pointer(unsafe.StringData(text)))
+}
+
+func TestP2APartIsNewMemory(t *testing.T) {
+	text := over("banana", 1000)
+	count, _ := sedge.Parts(text)
+	for n := 0; n < count; n += 97 {
+		part, _ := sedge.Part(text, n)
+		if at := addressed(part); at >= addressed(text) && at < addressed(text)+uintptr(len(text)) {
+			t.Fatalf("P2: Part %d shares memory with the text", n)
+		}
+	}
+}

@@ -1,0 +1,91 @@
+// Package sedge: all ends of a text in their order: see DOC.md.
+package sedge
+
+import (
+	"sedge/api"
+	"sedge/ends"
+	"sedge/parts"
+)
+
+// Sort tells the places at which the ends of a text begin, in the ends' order (P3).
+func Sort(text string, how int) ([]int, api.Errno) {
+	ways := [api.Ways]func(ends.Row) []int{
+		api.Doubling: ends.Row.Doubling,
+		api.Inducing: ends.Row.Inducing,
+		api.Thirds:   ends.Row.Thirds,
+	}
+	if how < 0 || how >= len(ways) {
+		return nil, api.ErrHow
+	}
+	if len(text) > api.MaxText {
+		return nil, api.ErrLong
+	}
+	return ways[how](ends.Of(text)), api.OK
+}
+
+// Common tells how far each end agrees with the one ahead of it (P3).
+func Common(text string) ([]int, api.Errno) {
+	if len(text) > api.MaxText {
+		return nil, api.ErrLong
+	}
+	return parts.Of(text).Common(), api.OK
+}
+
+// Parts counts the different parts of a text (P4).
+func Parts(text string) (int, api.Errno) {
+	if len(text) > api.MaxText {
+		return 0, api.ErrLong
+	}
+	return parts.Of(text).Count(), api.OK
+}
+
+// Part is one of them, by its number in their order (P4).
+func Part(text string, n int) (string, api.Errno) {
+	if len(text) > api.MaxText {
+		return "", api.ErrLong
+	}
+	part, found := parts.Of(text).Nth(n)
+	if !found {
+		return "", api.ErrNone
+	}
+	return part, api.OK
+}
+
+// Find tells where a pattern stands (P5).
+func Find(text string, pattern string) ([]int, api.Errno) { return nil, api.OK }
+
+// Shared tells the longest part that two texts have (P5).
+func Shared(a string, b string) (api.Span, api.Errno) { return api.Span{}, api.OK }
+
+// Turn turns a text (P6).
+func Turn(text string) (string, int, api.Errno) { return "", 0, api.OK }
+
+// Unturn gives the text that was turned (P6).
+func Unturn(last string, row int) (string, api.Errno) { return "", api.OK }
+
+// Factors parts a text into pieces that stood there before (P7).
+func Factors(text string) ([]api.Factor, api.Errno) { return nil, api.OK }
+
+// Join puts factors together (P7).
+func Join(l []api.Factor) (string, api.Errno, int) { return "", api.OK, 0 }
+
+// Shelf is texts with numbers.
+type Shelf struct{}
+
+// NewShelf makes an empty shelf (P8).
+func NewShelf() *Shelf { return nil }
+
+// Put puts a text on a shelf (P8).
+func (s *Shelf) Put(id int, text string) api.Errno { return api.OK }
+
+// Drop takes one away (P8).
+func (s *Shelf) Drop(id int) api.Errno { return api.OK }
+
+// Find tells where a pattern stands, in all texts (P9).
+func (s *Shelf) Find(pattern string) ([]api.Hit, api.Errno) { return nil, api.OK }
+
+// Top tells in which texts a pattern stands most often (P9).
+func (s *Shelf) Top(pattern string, n int) ([]int, api.Errno) { return nil, api.OK }
+
+// Wide tells the longest part that so many texts have (P9).
+func (s *Shelf) Wide(n int) (string, api.Errno) { return "", api.OK }
