@@ -1,9 +1,11 @@
 package ends
 
+import "sedge/bucket"
+
 // Doubling sorts the ends by their first number, then by two, by four, and so on. It is quick because the ranks by so many numbers, of both halves, tell the order by twice as many: no end is ever read through.
 func (r Row) Doubling() []int {
 	n := len(r.nums)
-	order := deal(upTo(n), r.kinds, func(p int) int { return r.nums[p] })
+	order := bucket.Deal(bucket.UpTo(n), r.kinds, func(p int) int { return r.nums[p] })
 	ranks := named(order, n, func(a, b int) bool { return r.nums[a] == r.nums[b] })
 	for width := 1; ranks.kinds < n; width *= 2 {
 		order = ranks.sortedByHalves(order, width)
@@ -19,8 +21,8 @@ func (r Row) halves(p, width int) [2]int {
 
 // sortedByHalves sorts places by twice as many numbers as the ranks stand for.
 func (r Row) sortedByHalves(places []int, width int) []int {
-	behind := deal(places, r.kinds+1, func(p int) int { return r.halves(p, width)[1] })
-	return deal(behind, r.kinds+1, func(p int) int { return r.halves(p, width)[0] })
+	behind := bucket.Deal(places, r.kinds+1, func(p int) int { return r.halves(p, width)[1] })
+	return bucket.Deal(behind, r.kinds+1, func(p int) int { return r.halves(p, width)[0] })
 }
 
 // doubled is the ranks by twice as many numbers.

@@ -4,34 +4,9 @@ import (
 	"math/rand"
 	"slices"
 	"testing"
+
+	"sedge/bucket"
 )
-
-func TestBucketsNeverRunOver(t *testing.T) {
-	row := make([]int, 6)
-	buckets := cut(row, []int{2, 0, 3, 1})
-	for b, room := range []int{2, 0, 3, 1} {
-		if len(buckets[b]) != 0 || cap(buckets[b]) != room {
-			t.Errorf("bucket %d: %d in it, room for %d, want 0 and %d", b, len(buckets[b]), cap(buckets[b]), room)
-		}
-	}
-	buckets[2] = append(buckets[2], 7, 8, 9)
-	buckets[0] = append(buckets[0], 1, 2, 3)
-	buckets[1] = append(buckets[1], 4)
-	if want := []int{0, 0, 7, 8, 9, 0}; !slices.Equal(row, want) {
-		t.Errorf("too much in one bucket: the row is %v, want %v", row, want)
-	}
-}
-
-func TestDealKeepsTheOrderOfLikes(t *testing.T) {
-	places := []int{13, 2, 11, 23, 1, 3}
-	got := deal(places, 4, func(p int) int { return p % 10 })
-	if want := []int{11, 1, 2, 13, 23, 3}; !slices.Equal(got, want) {
-		t.Errorf("deal gives %v, want %v", got, want)
-	}
-	if want := []int{13, 2, 11, 23, 1, 3}; !slices.Equal(places, want) {
-		t.Errorf("deal changed what it was given: %v", places)
-	}
-}
 
 func TestNamesAreTheSameForLikes(t *testing.T) {
 	names := named([]int{4, 0, 2, 1}, 6, func(a, b int) bool { return a%2 == b%2 })
@@ -60,7 +35,7 @@ func TestTwoOfEachThreePlacesAreChosen(t *testing.T) {
 
 // compared sorts the ends of a row as the library does.
 func compared(r Row) []int {
-	order := upTo(len(r.nums))
+	order := bucket.UpTo(len(r.nums))
 	slices.SortFunc(order, func(a, b int) int { return slices.Compare(r.nums[a:], r.nums[b:]) })
 	return order
 }

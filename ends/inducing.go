@@ -1,6 +1,10 @@
 package ends
 
-import "slices"
+import (
+	"slices"
+
+	"sedge/bucket"
+)
 
 // The slope at a place: an end that is behind the one at the next place falls, one that is ahead of it rises. Of two ends with the same first number the one that falls is the lesser: so a bucket of falling ones stands ahead of that of rising ones.
 const (
@@ -52,7 +56,7 @@ func (s sloped) isStart(p int) bool {
 
 // starts is the places at which ends begin to fall, by rising numbers.
 func (s sloped) starts() []int {
-	return s.onlyStarts(upTo(len(s.slope)))
+	return s.onlyStarts(bucket.UpTo(len(s.slope)))
 }
 
 // onlyStarts is those of some places at which ends begin to fall.
@@ -93,7 +97,7 @@ func (s sloped) bucket(p int) int {
 func (s sloped) induced(starts []int) []int {
 	row := make([]int, len(s.slope))
 	count := s.row.kinds * slopes
-	buckets := cut(row, sizes(upTo(len(row)), count, s.bucket))
+	buckets := bucket.Cut(row, bucket.Sizes(bucket.UpTo(len(row)), count, s.bucket))
 	s.induceRising(buckets, starts)
 	s.induceFalling(buckets)
 	return row

@@ -44,12 +44,3 @@ func pick(list, places []int) []int {
 	}
 	return picked
 }
-
-// upTo is the numbers from 0 up to less than n.
-func upTo(n int) []int {
-	list := make([]int, n)
-	for i := range list {
-		list[i] = i
-	}
-	return list
-}

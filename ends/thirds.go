@@ -1,6 +1,10 @@
 package ends
 
-import "slices"
+import (
+	"slices"
+
+	"sedge/bucket"
+)
 
 // Thirds sorts the ends at two of each three places, then the others by these, and merges both. It is quick because the first are put in order as a row that is a third shorter, by names for three numbers at a time.
 func (r Row) Thirds() []int {
@@ -35,7 +39,7 @@ func (r Row) sortedChosen() []int {
 	chosen := append(r.ofClass(1), r.ofClass(2)...)
 	sorted := chosen
 	for i := 2; i >= 0; i-- {
-		sorted = deal(sorted, r.kinds+1, func(p int) int { return r.three(p)[i] })
+		sorted = bucket.Deal(sorted, r.kinds+1, func(p int) int { return r.three(p)[i] })
 	}
 	names := named(sorted, len(r.nums), func(a, b int) bool { return r.three(a) == r.three(b) })
 	if names.kinds == len(chosen) {
@@ -53,7 +57,7 @@ func (r Row) sortedOthers(chosen []int) []int {
 			others = append(others, p-1)
 		}
 	}
-	return deal(others, r.kinds, func(p int) int { return r.nums[p] })
+	return bucket.Deal(others, r.kinds, func(p int) int { return r.nums[p] })
 }
 
 // merged is the chosen places and the others, both sorted, as one list.

@@ -1,4 +1,4 @@
-// Package parts tells of a text's different parts, by its ends in their order.
+// Package parts tells of a text's parts, by its ends in their order: which there are, where they stand, and which another text has too.
 package parts
 
 import (

@@ -37,3 +37,38 @@ func TestNoBytes(t *testing.T) {
 		t.Errorf("of no bytes: %q, %v, %d, %v", p, found, table.Count(), table.Common())
 	}
 }
+
+func TestPlacesAreACopy(t *testing.T) {
+	table := Of("banana")
+	l := table.Places("a")
+	if !slices.Equal(l, []int{1, 3, 5}) {
+		t.Fatalf("a stands in banana at %v", l)
+	}
+	clear(l[:cap(l)])
+	if l := table.Places("a"); !slices.Equal(l, []int{1, 3, 5}) || table.Count() != 15 {
+		t.Errorf("behind a list that was written over: %v, and %d parts", l, table.Count())
+	}
+}
+
+func TestPlacesAheadOfAllEndsAndBehindThem(t *testing.T) {
+	table := Of("banana")
+	for _, pattern := range []string{"\x00", "A", "az", "bananas", "c", "nanab", "z", "\xff"} {
+		if l := table.Places(pattern); len(l) != 0 {
+			t.Errorf("%q stands in banana at %v", pattern, l)
+		}
+	}
+}
+
+func TestReach(t *testing.T) {
+	for _, c := range []struct {
+		text, pattern string
+		want          int
+	}{
+		{"", "a", 0}, {"a", "", 0}, {"banana", "anas", 3}, {"banana", "ananas", 5}, {"banana", "bananas", 6}, {"banana", "nab", 2},
+		{"banana", "nano", 3}, {"banana", "\x00a", 0}, {"banana", "z", 0}, {"banana", "az", 1}, {"banana", "a\x00", 1}, {"banana", "banana", 6},
+	} {
+		if got := Of(c.text).reach(c.pattern); got != c.want {
+			t.Errorf("%d bytes of %q are a part of %q, want %d", got, c.pattern, c.text, c.want)
+		}
+	}
+}

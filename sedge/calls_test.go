@@ -51,6 +51,10 @@ func TestP1NoCallPanics(t *testing.T) {
 		for _, n := range extremeNumbers() {
 			callAll(text, texts[(i+1)%len(texts)], n)
 		}
+		for _, other := range texts {
+			sedge.Find(text, other)
+			sedge.Shared(text, other)
+		}
 	}
 	sedge.Join(nil)
 	sedge.Join(make([]api.Factor, 1001))
@@ -86,12 +90,51 @@ func TestP1TheFirstNamedErrorAndNothingBesides(t *testing.T) {
 	}
 }
 
+func TestP1TheFirstNamedErrorOfTwoTexts(t *testing.T) {
+	long := over("ab", 1001)
+	for _, c := range []struct {
+		text, other string
+		find        api.Errno
+		shared      api.Errno
+	}{
+		{long, "", api.ErrLong, api.ErrLong}, {long, "ab", api.ErrLong, api.ErrLong}, {long, long, api.ErrLong, api.ErrLong},
+		{"", long, api.ErrLong, api.ErrLong}, {"ab", long, api.ErrLong, api.ErrLong},
+		{"", "", api.ErrEmpty, api.OK}, {long[:1000], "", api.ErrEmpty, api.OK},
+	} {
+		if l, e := sedge.Find(c.text, c.other); len(l) != 0 || e != c.find {
+			t.Errorf("P1: Find of %d bytes in %d = %v, %d, want nothing, %d", len(c.other), len(c.text), l, e, c.find)
+		}
+		if s, e := sedge.Shared(c.text, c.other); s != (api.Span{}) || e != c.shared {
+			t.Errorf("P1: Shared of %d bytes and %d = %+v, %d, want nothing, %d", len(c.text), len(c.other), s, e, c.shared)
+		}
+	}
+}
+
+func TestP1TheFirstNamedErrorOfTurning(t *testing.T) {
+	long := over("ab", 1001)
+	if last, row, e := sedge.Turn(long); last != "" || row != 0 || e != api.ErrLong {
+		t.Errorf("P1: Turn of 1001 bytes = %.60q, %d, %d, want nothing, ErrLong", last, row, e)
+	}
+	for _, row := range extremeNumbers() {
+		if text, e := sedge.Unturn(long, row); text != "" || e != api.ErrLong {
+			t.Errorf("P1: Unturn of 1001 bytes, %d = %.60q, %d, want nothing, ErrLong", row, text, e)
+		}
+		if text, e := sedge.Unturn("aaa", row); row != 3 && (text != "" || e != api.ErrRow) {
+			t.Errorf("P1: Unturn of aaa, %d = %q, %d, want nothing, ErrRow", row, text, e)
+		}
+	}
+}
+
 // answers is all that the calls of one text tell, each list a copy.
 type answers struct {
 	sorted [api.Ways][]int
 	common []int
 	count  int
 	part   string
+	places [][]int
+	shared []api.Span
+	turned turned
+	back   string
 }
 
 func answersOf(text string) answers {
@@ -104,7 +147,20 @@ func answersOf(text string) answers {
 	a.common = slices.Clone(l)
 	a.count, _ = sedge.Parts(text)
 	a.part, _ = sedge.Part(text, a.count/2)
+	for _, other := range patternsIn(text) {
+		l, _ := sedge.Find(text, other)
+		a.places = append(a.places, slices.Clone(l))
+		s, _ := sedge.Shared(other, text)
+		a.shared = append(a.shared, s)
+	}
+	a.turned.last, a.turned.row, _ = sedge.Turn(text)
+	a.back, _ = sedge.Unturn(text, len(text))
 	return a
+}
+
+// patternsIn is some patterns that stand in a text once, often or nowhere.
+func patternsIn(text string) []string {
+	return []string{"a", "\x00", text[:min(len(text), 1)], text[len(text)/2:], text[len(text)*2/3:] + "!"}
 }
 
 func (a answers) equal(b answers) bool {
@@ -113,7 +169,9 @@ func (a answers) equal(b answers) bool {
 			return false
 		}
 	}
-	return slices.Equal(a.common, b.common) && a.count == b.count && a.part == b.part
+	return slices.Equal(a.common, b.common) && a.count == b.count && a.part == b.part &&
+		slices.EqualFunc(a.places, b.places, slices.Equal) && slices.Equal(a.shared, b.shared) &&
+		a.turned == b.turned && a.back == b.back
 }
 
 func TestP2TheSameCallAgainBehindOthers(t *testing.T) {
@@ -149,7 +207,12 @@ func lists(text string) [][]int {
 		all = append(all, l)
 	}
 	l, _ := sedge.Common(text)
-	return append(all, l)
+	all = append(all, l)
+	for _, pattern := range patternsIn(text) {
+		l, _ := sedge.Find(text, pattern)
+		all = append(all, l)
+	}
+	return all
 }
 
 func TestP2AListIsTheCallers(t *testing.T) {
@@ -179,13 +242,31 @@ func addressed(text string) uintptr {
 	return uintptr(unsafe.Pointer(unsafe.StringData(text)))
 }
 
+// within is whether one text's bytes stand in the memory of another's.
+func within(inner, outer string) bool {
+	at := addressed(inner)
+	return at >= addressed(outer) && at < addressed(outer)+uintptr(len(outer))
+}
+
 func TestP2APartIsNewMemory(t *testing.T) {
 	text := over("banana", 1000)
 	count, _ := sedge.Parts(text)
 	for n := 0; n < count; n += 97 {
-		part, _ := sedge.Part(text, n)
-		if at := addressed(part); at >= addressed(text) && at < addressed(text)+uintptr(len(text)) {
+		if part, _ := sedge.Part(text, n); within(part, text) {
 			t.Fatalf("P2: Part %d shares memory with the text", n)
+		}
+	}
+}
+
+// TestP2WhatIsTurnedIsNewMemory: of one byte over and over, the turned text is the text again, but not its memory.
+func TestP2WhatIsTurnedIsNewMemory(t *testing.T) {
+	for _, text := range []string{over("a", 1000), over("banana", 1000)} {
+		last, row, _ := sedge.Turn(text)
+		if within(last, text) {
+			t.Errorf("P2: Turn of %.60q shares memory with the text", text)
+		}
+		if back, _ := sedge.Unturn(last, row); within(back, last) {
+			t.Errorf("P2: Unturn of what Turn makes of %.60q shares memory with it", text)
 		}
 	}
 }

@@ -4,6 +4,8 @@ import (
 	"math/rand"
 	"slices"
 	"strings"
+
+	"sedge/api"
 )
 
 const (
@@ -124,4 +126,77 @@ func sortedParts(text string) []string {
 	}
 	slices.Sort(list)
 	return slices.Compact(list)
+}
+
+// comparedPlaces is where a pattern stands, by looking at each place.
+func comparedPlaces(text, pattern string) []int {
+	var list []int
+	for p := range len(text) {
+		if strings.HasPrefix(text[p:], pattern) {
+			list = append(list, p)
+		}
+	}
+	return list
+}
+
+// comparedSpan is the longest part that two texts have, by going through all pairs of places; the first of them that is longer than those before it stands first in a, and first in b for this place of a.
+func comparedSpan(a, b string) api.Span {
+	var longest api.Span
+	for i := range len(a) {
+		for k := range len(b) {
+			n := 0
+			for i+n < len(a) && k+n < len(b) && a[i+n] == b[k+n] {
+				n++
+			}
+			if n > longest.Len {
+				longest = api.Span{Len: n, A: i, B: k}
+			}
+		}
+	}
+	return longest
+}
+
+// turned is what Turn makes of a text.
+type turned struct {
+	last string
+	row  int
+}
+
+// comparedTurn turns a text by the library's order of its ends. The mark alone is the end of no bytes.
+func comparedTurn(text string) turned {
+	var t turned
+	for i, p := range append([]int{len(text)}, sortedEnds(text)...) {
+		if p == 0 {
+			t.row = i
+		} else {
+			t.last += text[p-1 : p]
+		}
+	}
+	return t
+}
+
+// comparedBack is the only text that can have become t, and whether it did. The bytes ahead of the sorted beginnings of all rows, sorted anew, are the beginnings with one byte more; the mark is the number 0.
+func comparedBack(t turned) (string, bool) {
+	if t.row < 0 || t.row > len(t.last) {
+		return "", false
+	}
+	ahead := make([]int, 0, len(t.last)+1)
+	for i := range len(t.last) {
+		ahead = append(ahead, int(t.last[i])+1)
+	}
+	ahead = slices.Insert(ahead, t.row, 0)
+	rows := make([][]int, len(ahead))
+	for range ahead {
+		for i, b := range ahead {
+			rows[i] = append([]int{b}, rows[i]...)
+		}
+		slices.SortFunc(rows, slices.Compare)
+	}
+	var text []byte
+	for _, b := range rows[t.row] {
+		if b > 0 {
+			text = append(text, byte(b-1))
+		}
+	}
+	return string(text), comparedTurn(string(text)) == t
 }

@@ -5,6 +5,7 @@ import (
 	"sedge/api"
 	"sedge/ends"
 	"sedge/parts"
+	"sedge/turn"
 )
 
 // Sort tells the places at which the ends of a text begin, in the ends' order (P3).
@@ -52,16 +53,44 @@ func Part(text string, n int) (string, api.Errno) {
 }
 
 // Find tells where a pattern stands (P5).
-func Find(text string, pattern string) ([]int, api.Errno) { return nil, api.OK }
+func Find(text string, pattern string) ([]int, api.Errno) {
+	if len(text) > api.MaxText || len(pattern) > api.MaxText {
+		return nil, api.ErrLong
+	}
+	if pattern == "" {
+		return nil, api.ErrEmpty
+	}
+	return parts.Of(text).Places(pattern), api.OK
+}
 
 // Shared tells the longest part that two texts have (P5).
-func Shared(a string, b string) (api.Span, api.Errno) { return api.Span{}, api.OK }
+func Shared(a string, b string) (api.Span, api.Errno) {
+	if len(a) > api.MaxText || len(b) > api.MaxText {
+		return api.Span{}, api.ErrLong
+	}
+	return parts.Shared(a, b), api.OK
+}
 
-// Turn turns a text (P6).
-func Turn(text string) (string, int, api.Errno) { return "", 0, api.OK }
+// Turn tells the bytes ahead of a text's ends, in the ends' order, and which row has none (P6).
+func Turn(text string) (string, int, api.Errno) {
+	if len(text) > api.MaxText {
+		return "", 0, api.ErrLong
+	}
+	last, row := turn.Text(text)
+	return last, row, api.OK
+}
 
 // Unturn gives the text that was turned (P6).
-func Unturn(last string, row int) (string, api.Errno) { return "", api.OK }
+func Unturn(last string, row int) (string, api.Errno) {
+	if len(last) > api.MaxText {
+		return "", api.ErrLong
+	}
+	text, found := turn.Back(last, row)
+	if !found {
+		return "", api.ErrRow
+	}
+	return text, api.OK
+}
 
 // Factors parts a text into pieces that stood there before (P7).
 func Factors(text string) ([]api.Factor, api.Errno) { return nil, api.OK }
