@@ -72,3 +72,37 @@ func TestReach(t *testing.T) {
 		}
 	}
 }
+
+func TestEarlier(t *testing.T) {
+	type found struct{ from, size int }
+	for text, list := range map[string][]found{
+		"a":      {{}},
+		"abc":    {{}, {}, {}},
+		"aaaa":   {{}, {0, 3}, {0, 2}, {0, 1}},
+		"banana": {{}, {}, {}, {1, 3}, {2, 2}, {1, 1}},
+		"abcab":  {{}, {}, {}, {0, 2}, {1, 1}},
+		"xa.ya!": {{}, {}, {}, {}, {1, 1}, {}},
+		"xa!ya.": {{}, {}, {}, {}, {1, 1}, {}},
+	} {
+		table := Of(text)
+		for place, want := range list {
+			if from, size := table.Earlier(place); from != want.from || size != want.size {
+				t.Errorf("%q at %d stands at %d too, with %d bytes, want %v", text, place, from, size, want)
+			}
+		}
+	}
+}
+
+// TestSameAheadAndBehind: the last ab of the first text is the first of all its ends; ab! of the second one stands between aayabab! and abab!.
+func TestSameAheadAndBehind(t *testing.T) {
+	table := Of("xacyabzab")
+	rank := table.ahead("ab")
+	if ahead, behind := table.sameAhead(rank), table.sameBehind(rank); ahead != 0 || behind != 2 {
+		t.Errorf("the last ab has %d bytes in common ahead, %d behind, want 0 and 2", ahead, behind)
+	}
+	table = Of("xaayabab!")
+	rank = table.ahead("ab!")
+	if ahead, behind := table.sameAhead(rank), table.sameBehind(rank); ahead != 1 || behind != 2 {
+		t.Errorf("ab! has %d bytes in common ahead, %d behind, want 1 and 2", ahead, behind)
+	}
+}

@@ -56,8 +56,30 @@ func TestP1NoCallPanics(t *testing.T) {
 			sedge.Shared(text, other)
 		}
 	}
+}
+
+func TestP1JoinNeverPanics(t *testing.T) {
+	defer func() {
+		if r := recover(); r != nil {
+			t.Fatalf("P1: Join panicked: %v", r)
+		}
+	}()
 	sedge.Join(nil)
+	sedge.Join([]api.Factor{})
 	sedge.Join(make([]api.Factor, 1001))
+	sedge.Join(make([]api.Factor, 100000))
+	for _, from := range extremeNumbers() {
+		for _, size := range extremeNumbers() {
+			for _, b := range []byte{0, 255} {
+				f := api.Factor{From: from, Len: size, Byte: b}
+				sedge.Join([]api.Factor{f})
+				sedge.Join([]api.Factor{{}, f, f})
+				sedge.Join([]api.Factor{{Byte: 255}, taken(0, 999), f})
+				sedge.Join(slices.Repeat([]api.Factor{f}, 1000))
+				sedge.Join(slices.Repeat([]api.Factor{f}, 1001))
+			}
+		}
+	}
 }
 
 func TestP1TheFirstNamedErrorAndNothingBesides(t *testing.T) {
@@ -125,6 +147,34 @@ func TestP1TheFirstNamedErrorOfTurning(t *testing.T) {
 	}
 }
 
+func TestP1TheFirstNamedErrorOfPieces(t *testing.T) {
+	if l, e := sedge.Factors(over("ab", 1001)); len(l) != 0 || e != api.ErrLong {
+		t.Errorf("P1: Factors of 1001 bytes = %v, %d, want nothing, ErrLong", l, e)
+	}
+	wrong := api.Factor{From: -1, Len: greatestInt, Byte: 1}
+	for _, c := range []struct {
+		list []api.Factor
+		want api.Errno
+		at   int
+	}{
+		{slices.Repeat([]api.Factor{wrong}, 1001), api.ErrMany, 0},
+		{behind(single(over("a", 1000)), wrong), api.ErrMany, 0},
+		{[]api.Factor{wrong}, api.ErrFactor, 0},
+		{behind(single("abc"), wrong, wrong), api.ErrFactor, 3},
+		{behind(single("abc"), taken(3, greatestInt)), api.ErrFactor, 3},
+		{behind(single("abc"), taken(2, greatestInt), wrong), api.ErrLong, 3},
+	} {
+		if text, e, at := sedge.Join(c.list); text != "" || e != c.want || at != c.at {
+			t.Errorf("P1: Join of %d factors = %.60q, %d, %d, want nothing, %d, %d", len(c.list), text, e, at, c.want, c.at)
+		}
+	}
+	for _, list := range [][]api.Factor{nil, single("abc"), single(over("a", 1000)), behind(single("a"), taken(0, 999))} {
+		if _, e, at := sedge.Join(list); e != api.OK || at != 0 {
+			t.Errorf("P1: Join of %d factors: %d, %d, want OK, 0", len(list), e, at)
+		}
+	}
+}
+
 // answers is all that the calls of one text tell, each list a copy.
 type answers struct {
 	sorted [api.Ways][]int
@@ -135,6 +185,8 @@ type answers struct {
 	shared []api.Span
 	turned turned
 	back   string
+	pieces []api.Factor
+	joined string
 }
 
 func answersOf(text string) answers {
@@ -155,6 +207,9 @@ func answersOf(text string) answers {
 	}
 	a.turned.last, a.turned.row, _ = sedge.Turn(text)
 	a.back, _ = sedge.Unturn(text, len(text))
+	pieces, _ := sedge.Factors(text)
+	a.pieces = slices.Clone(pieces)
+	a.joined, _, _ = sedge.Join(pieces)
 	return a
 }
 
@@ -171,7 +226,7 @@ func (a answers) equal(b answers) bool {
 	}
 	return slices.Equal(a.common, b.common) && a.count == b.count && a.part == b.part &&
 		slices.EqualFunc(a.places, b.places, slices.Equal) && slices.Equal(a.shared, b.shared) &&
-		a.turned == b.turned && a.back == b.back
+		a.turned == b.turned && a.back == b.back && slices.Equal(a.pieces, b.pieces) && a.joined == b.joined
 }
 
 func TestP2TheSameCallAgainBehindOthers(t *testing.T) {
@@ -234,6 +289,60 @@ func TestP2AListIsTheCallers(t *testing.T) {
 		if again := answersOf(text); !again.equal(want) {
 			t.Fatalf("P2: %.60q: writing over the lists changed later answers: %v, were %v", text, again, want)
 		}
+	}
+}
+
+func TestP2TheFactorsAreTheCallers(t *testing.T) {
+	for _, text := range append(shortTexts(), longTexts()...) {
+		first, _ := sedge.Factors(text)
+		second, _ := sedge.Factors(text)
+		want := slices.Clone(second)
+		whole := first[:cap(first)]
+		for i := range whole {
+			whole[i] = api.Factor{From: -7, Len: -7, Byte: 7}
+		}
+		if !slices.Equal(second, want) {
+			t.Fatalf("P2: %.60q: writing over one list of factors changed another", text)
+		}
+		if again, _ := sedge.Factors(text); !slices.Equal(again, want) {
+			t.Fatalf("P2: %.60q: writing over a list of factors changed a later one: %v, was %v", text, again, want)
+		}
+	}
+}
+
+// roomy is lists that Join takes or refuses, each one a piece of a longer list.
+func roomy() [][]api.Factor {
+	var all [][]api.Factor
+	for _, list := range [][]api.Factor{
+		nil, single("abc"), behind(single("ab"), taken(0, 5)), behind(single("a"), taken(0, 999)), single(over("ab", 1000)),
+		behind(single("a"), taken(1, 2)), behind(single("a"), taken(0, 1000)), behind(single("ab"), api.Factor{Len: -1}), single(over("ab", 1001)),
+	} {
+		more := slices.Repeat([]api.Factor{{From: 3, Len: 3, Byte: 3}}, 50)
+		all = append(all, behind(list, more...)[:len(list)])
+	}
+	return all
+}
+
+func TestP2JoinWritesNeitherIntoAListNorBehindIt(t *testing.T) {
+	for _, list := range roomy() {
+		whole := slices.Clone(list[:cap(list)])
+		text, e, at := sedge.Join(list)
+		if !slices.Equal(list[:cap(list)], whole) {
+			t.Errorf("P2: Join wrote into a list of %d factors or behind it", len(list))
+		}
+		if again, f, place := sedge.Join(slices.Clip(slices.Clone(list))); again != text || f != e || place != at {
+			t.Errorf("P2: Join of %d factors = %.60q, %d, %d with room behind them, %.60q, %d, %d without", len(list), text, e, at, again, f, place)
+		}
+	}
+}
+
+// TestP2JoinKeepsNoList: what was joined stays, though the list that it was made of is written over.
+func TestP2JoinKeepsNoList(t *testing.T) {
+	list := behind(single("ban"), taken(1, 3))
+	text, _, _ := sedge.Join(list)
+	copy(list, single("xyzw"))
+	if other, e, _ := sedge.Join(list); text != "banana" || other != "xyzw" || e != api.OK {
+		t.Errorf("P2: Join = %q, then, of another list in its memory, %q, %d", text, other, e)
 	}
 }
 

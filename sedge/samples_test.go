@@ -200,3 +200,65 @@ func comparedBack(t turned) (string, bool) {
 	}
 	return string(text), comparedTurn(string(text)) == t
 }
+
+// single is the factors of bytes that stand for themselves.
+func single(bytes string) []api.Factor {
+	var list []api.Factor
+	for i := range len(bytes) {
+		list = append(list, api.Factor{Byte: bytes[i]})
+	}
+	return list
+}
+
+// taken is a piece from a place on.
+func taken(from, size int) api.Factor {
+	return api.Factor{From: from, Len: size}
+}
+
+// behind is factors, and more behind them, in memory of their own.
+func behind(list []api.Factor, more ...api.Factor) []api.Factor {
+	return slices.Concat(list, more)
+}
+
+// sameFrom is how many bytes stand in a text at one place as at another, from there on.
+func sameFrom(text string, a, b int) int {
+	n := 0
+	for max(a, b)+n < len(text) && text[a+n] == text[b+n] {
+		n++
+	}
+	return n
+}
+
+// comparedFactors is the pieces of a text, by trying each place ahead; only a longer one takes the place of one that was met.
+func comparedFactors(text string) []api.Factor {
+	var list []api.Factor
+	for place := 0; place < len(text); {
+		f := api.Factor{Byte: text[place]}
+		for from := range place {
+			if n := sameFrom(text, from, place); n > f.Len {
+				f = taken(from, n)
+			}
+		}
+		list = append(list, f)
+		place += max(f.Len, 1)
+	}
+	return list
+}
+
+// fewestPieces is how few pieces a text can be made of, each one byte or some bytes that stand at a place ahead of it as well: tried with every length of every piece.
+func fewestPieces(text string) int {
+	fewest := make([]int, len(text)+1)
+	for i := range fewest {
+		fewest[i] = i
+	}
+	for place := range len(text) {
+		longest := 1
+		for from := range place {
+			longest = max(longest, sameFrom(text, from, place))
+		}
+		for n := 1; n <= longest; n++ {
+			fewest[place+n] = min(fewest[place+n], fewest[place]+1)
+		}
+	}
+	return fewest[len(text)]
+}

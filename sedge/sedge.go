@@ -5,6 +5,7 @@ import (
 	"sedge/api"
 	"sedge/ends"
 	"sedge/parts"
+	"sedge/pieces"
 	"sedge/turn"
 )
 
@@ -93,10 +94,20 @@ func Unturn(last string, row int) (string, api.Errno) {
 }
 
 // Factors parts a text into pieces that stood there before (P7).
-func Factors(text string) ([]api.Factor, api.Errno) { return nil, api.OK }
+func Factors(text string) ([]api.Factor, api.Errno) {
+	if len(text) > api.MaxText {
+		return nil, api.ErrLong
+	}
+	return pieces.Of(text), api.OK
+}
 
-// Join puts factors together (P7).
-func Join(l []api.Factor) (string, api.Errno, int) { return "", api.OK, 0 }
+// Join puts factors together (P7). There may be as many of them as a text may have bytes.
+func Join(l []api.Factor) (string, api.Errno, int) {
+	if len(l) > api.MaxText {
+		return "", api.ErrMany, 0
+	}
+	return pieces.Join(l)
+}
 
 // Shelf is texts with numbers.
 type Shelf struct{}
