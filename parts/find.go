@@ -29,8 +29,8 @@ func (t Table) Places(pattern string) []int {
 	return places
 }
 
-// reach is how many bytes of a pattern, from the first on, are a part of the text. No end has more in common with it than one of the two between which it would stand.
-func (t Table) reach(pattern string) int {
+// Reach is how many bytes of a pattern, from the first on, are a part of the text. No end has more in common with it than one of the two between which it would stand.
+func (t Table) Reach(pattern string) int {
 	rank := t.ahead(pattern)
 	reach := 0
 	for i := max(rank-1, 0); i < min(rank+1, len(t.order)); i++ {
@@ -44,7 +44,7 @@ func Shared(a, b string) api.Span {
 	table := Of(b)
 	var longest api.Span
 	for p := range len(a) {
-		if reach := table.reach(a[p:]); reach > longest.Len {
+		if reach := table.Reach(a[p:]); reach > longest.Len {
 			longest.Len, longest.A = reach, p
 		}
 	}

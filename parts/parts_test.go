@@ -67,7 +67,7 @@ func TestReach(t *testing.T) {
 		{"", "a", 0}, {"a", "", 0}, {"banana", "anas", 3}, {"banana", "ananas", 5}, {"banana", "bananas", 6}, {"banana", "nab", 2},
 		{"banana", "nano", 3}, {"banana", "\x00a", 0}, {"banana", "z", 0}, {"banana", "az", 1}, {"banana", "a\x00", 1}, {"banana", "banana", 6},
 	} {
-		if got := Of(c.text).reach(c.pattern); got != c.want {
+		if got := Of(c.text).Reach(c.pattern); got != c.want {
 			t.Errorf("%d bytes of %q are a part of %q, want %d", got, c.pattern, c.text, c.want)
 		}
 	}

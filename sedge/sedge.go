@@ -6,6 +6,7 @@ import (
 	"sedge/ends"
 	"sedge/parts"
 	"sedge/pieces"
+	"sedge/shelf"
 	"sedge/turn"
 )
 
@@ -55,11 +56,11 @@ func Part(text string, n int) (string, api.Errno) {
 
 // Find tells where a pattern stands (P5).
 func Find(text string, pattern string) ([]int, api.Errno) {
-	if len(text) > api.MaxText || len(pattern) > api.MaxText {
+	if len(text) > api.MaxText {
 		return nil, api.ErrLong
 	}
-	if pattern == "" {
-		return nil, api.ErrEmpty
+	if e := checkPattern(pattern); e != api.OK {
+		return nil, e
 	}
 	return parts.Of(text).Places(pattern), api.OK
 }
@@ -110,22 +111,71 @@ func Join(l []api.Factor) (string, api.Errno, int) {
 }
 
 // Shelf is texts with numbers.
-type Shelf struct{}
+type Shelf struct {
+	texts shelf.Texts
+}
 
 // NewShelf makes an empty shelf (P8).
-func NewShelf() *Shelf { return nil }
+func NewShelf() *Shelf {
+	return &Shelf{}
+}
 
 // Put puts a text on a shelf (P8).
-func (s *Shelf) Put(id int, text string) api.Errno { return api.OK }
+func (s *Shelf) Put(id int, text string) api.Errno {
+	switch {
+	case id < 0 || id > api.MaxId:
+		return api.ErrId
+	case s.texts.Has(id):
+		return api.ErrTwice
+	case len(text) > api.MaxDoc:
+		return api.ErrLong
+	case s.texts.Count() >= api.MaxShelf:
+		return api.ErrFull
+	}
+	s.texts = s.texts.With(id, text)
+	return api.OK
+}
 
 // Drop takes one away (P8).
-func (s *Shelf) Drop(id int) api.Errno { return api.OK }
+func (s *Shelf) Drop(id int) api.Errno {
+	if !s.texts.Has(id) {
+		return api.ErrNone
+	}
+	s.texts = s.texts.Without(id)
+	return api.OK
+}
 
 // Find tells where a pattern stands, in all texts (P9).
-func (s *Shelf) Find(pattern string) ([]api.Hit, api.Errno) { return nil, api.OK }
+func (s *Shelf) Find(pattern string) ([]api.Hit, api.Errno) {
+	if e := checkPattern(pattern); e != api.OK {
+		return nil, e
+	}
+	return s.texts.Find(pattern), api.OK
+}
 
 // Top tells in which texts a pattern stands most often (P9).
-func (s *Shelf) Top(pattern string, n int) ([]int, api.Errno) { return nil, api.OK }
+func (s *Shelf) Top(pattern string, n int) ([]int, api.Errno) {
+	if e := checkPattern(pattern); e != api.OK {
+		return nil, e
+	}
+	return s.texts.Top(pattern, n), api.OK
+}
 
 // Wide tells the longest part that so many texts have (P9).
-func (s *Shelf) Wide(n int) (string, api.Errno) { return "", api.OK }
+func (s *Shelf) Wide(n int) (string, api.Errno) {
+	if n < 1 || n > s.texts.Count() {
+		return "", api.ErrNone
+	}
+	return s.texts.Wide(n), api.OK
+}
+
+// checkPattern is the reason why a pattern is not looked for, or OK. It may have more bytes than any text of a shelf: then it stands nowhere.
+func checkPattern(pattern string) api.Errno {
+	if len(pattern) > api.MaxText {
+		return api.ErrLong
+	}
+	if pattern == "" {
+		return api.ErrEmpty
+	}
+	return api.OK
+}

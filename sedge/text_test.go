@@ -258,3 +258,26 @@ func TestP4TooLong(t *testing.T) {
 		}
 	}
 }
+
+// TestP10TheWaysComeToTheSame: held against each other alone, whatever the order is.
+func TestP10TheWaysComeToTheSame(t *testing.T) {
+	check := func(text string) {
+		first, e := sedge.Sort(text, api.Doubling)
+		if len(first) != len(text) || e != api.OK {
+			t.Fatalf("P10: Sort of %.60q (%d bytes): %d places, %d", text, len(text), len(first), e)
+		}
+		for _, how := range []int{api.Inducing, api.Thirds} {
+			if other, e := sedge.Sort(text, how); !slices.Equal(other, first) || e != api.OK {
+				t.Fatalf("P10: Sort of %.60q (%d bytes) by way %d = %v, %d, but by Doubling %v", text, len(text), how, other, e, first)
+			}
+		}
+	}
+	for _, text := range slices.Concat(shortTexts(), longTexts()) {
+		check(text)
+	}
+	eachText("abc", 6, check)
+	for n := 0; n <= 1000; n += 9 {
+		check(drawn(int64(n), n, 1+n%256))
+		check(over(drawn(int64(n), 1+n%40, 2), n))
+	}
+}
